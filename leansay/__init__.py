@@ -1,0 +1,1 @@
+"""Leansay: sayings that are true by parts."""

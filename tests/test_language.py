@@ -1,4 +1,4 @@
-"""The rules of LANGUAGE.md that can be seen in the package's text, and some texts against them that must be found."""
+"""Many, not all, of LANGUAGE.md's rules, seen in the package's text; and texts against them that must be found."""
 
 import ast
 import builtins

@@ -1,14 +1,21 @@
 """Sayings: how they are made, written, counted, weighed at a point and put in one another."""
 
+# How many sayings each word takes to make one of them.
+TAKEN = {"never": 0, "always": 0, "p": 0, "q": 0, "not": 1, "more": 2, "less": 2, "greater": 2, "lesser": 2, "leads": 2}
+
 
 # Sayings that were put in one another may be made of parts within parts beyond any number that recursion bears:
 # so all walks here are loops. Each kind of saying adds to the methods below
+#   making_word(): the word by which it is made of the sayings in it;
 #   pieces(): its words and the sayings that it is made of, in the order in which they are written;
 #   weigh(worths, n, x, y): takes the worths of what it is made of from the end of worths, and puts its own there;
 #   remake(made, one, other): the same with the sayings that put_in makes.
 class Saying:
     def made_of(self):
         return []
+
+    def pieces(self):
+        return [self.making_word()]
 
     # Each part as often as it stands there, behind those that it is made of, the one's ahead of the other's.
     def laid_out(self):
@@ -49,8 +56,8 @@ class Saying:
 
 
 class Never(Saying):
-    def pieces(self):
-        return ["never"]
+    def making_word(self):
+        return "never"
 
     def weigh(self, worths, n, x, y):
         worths.append(0)
@@ -60,8 +67,8 @@ class Never(Saying):
 
 
 class Always(Saying):
-    def pieces(self):
-        return ["always"]
+    def making_word(self):
+        return "always"
 
     def weigh(self, worths, n, x, y):
         worths.append(n)
@@ -74,8 +81,8 @@ class Letter(Saying):
     def __init__(self, name):
         self.name = name
 
-    def pieces(self):
-        return [self.name]
+    def making_word(self):
+        return self.name
 
     def weigh(self, worths, n, x, y):
         worths.append(x if self.name == "p" else y)
@@ -91,6 +98,9 @@ class Not(Saying):
     def made_of(self):
         return [self.part]
 
+    def making_word(self):
+        return "not"
+
     def pieces(self):
         return ["not", self.part]
 
@@ -101,8 +111,8 @@ class Not(Saying):
         made.append(Not(made.pop()))
 
 
-# Each fold adds its folding_word(), its worth folded(n, first, second) of the worths of both, and
-# refolded(first, second), a fold of the same kind.
+# Each fold adds its worth folded(n, first, second) of the worths of both, and refolded(first, second), a fold of
+# the same kind.
 class Fold(Saying):
     def __init__(self, one, other):
         self.one = one
@@ -112,7 +122,7 @@ class Fold(Saying):
         return [self.one, self.other]
 
     def pieces(self):
-        return ["(", self.one, self.folding_word(), self.other, ")"]
+        return ["(", self.one, self.making_word(), self.other, ")"]
 
     def weigh(self, worths, n, x, y):
         second = worths.pop()
@@ -126,7 +136,7 @@ class Fold(Saying):
 
 
 class More(Fold):
-    def folding_word(self):
+    def making_word(self):
         return "more"
 
     def folded(self, n, first, second):
@@ -137,7 +147,7 @@ class More(Fold):
 
 
 class Less(Fold):
-    def folding_word(self):
+    def making_word(self):
         return "less"
 
     def folded(self, n, first, second):
@@ -148,7 +158,7 @@ class Less(Fold):
 
 
 class Greater(Fold):
-    def folding_word(self):
+    def making_word(self):
         return "greater"
 
     def folded(self, n, first, second):
@@ -159,7 +169,7 @@ class Greater(Fold):
 
 
 class Lesser(Fold):
-    def folding_word(self):
+    def making_word(self):
         return "lesser"
 
     def folded(self, n, first, second):
@@ -170,7 +180,7 @@ class Lesser(Fold):
 
 
 class Leads(Fold):
-    def folding_word(self):
+    def making_word(self):
         return "leads"
 
     def folded(self, n, first, second):
@@ -178,6 +188,31 @@ class Leads(Fold):
 
     def refolded(self, first, second):
         return Leads(first, second)
+
+
+# None where no saying is made by the word.
+def how_many_it_takes(word):
+    return TAKEN.get(word)
+
+
+def leaf_by(word):
+    if word == "never":
+        return Never()
+    if word == "always":
+        return Always()
+    return Letter(word)
+
+
+def fold_by(word, one, other):
+    if word == "more":
+        return More(one, other)
+    if word == "less":
+        return Less(one, other)
+    if word == "greater":
+        return Greater(one, other)
+    if word == "lesser":
+        return Lesser(one, other)
+    return Leads(one, other)
 
 
 def put_in(saying, one, other):

@@ -1,6 +1,7 @@
 """What tests hold the program against, told without it: sayings as plans ("never",), .., ("not", plan),
 (word, plan, plan), and what lines mean."""
 
+import itertools
 import math
 import random
 from fractions import Fraction
@@ -10,6 +11,7 @@ from leansay.sayings import Always, Greater, Leads, Less, Lesser, Letter, More, 
 FOLDS = {"more": More, "less": Less, "greater": Greater, "lesser": Lesser, "leads": Leads}
 P = Letter("p")
 Q = Letter("q")
+LEAVES = ("never", "always", "p", "q")
 LARGE = 10 ** 20 + 39
 SIXTY = 10 ** 60 - 1
 
@@ -142,3 +144,134 @@ def places_on(*lines):
                 places.add(Fraction(other_height - height, slope - other_slope))
     places = sorted(place for place in places if 0 <= place <= 1)
     return places + [(first + second) / 2 for first, second in zip(places, places[1:])]
+
+
+def some_rows(chance, count, words=LEAVES):
+    rows = []
+    for place in range(count):
+        if place == 0 or chance.randrange(6) == 0:
+            rows.append((chance.choice(words),))
+        elif chance.randrange(4) == 0:
+            rows.append(("not", chance.randrange(place)))
+        else:
+            rows.append((chance.choice(tuple(FOLDS)), chance.randrange(place), chance.randrange(place)))
+    return rows
+
+
+# The worth of each row.
+def worths_row_by_row(rows, point):
+    worths = []
+    for row in rows:
+        n, x, y = point
+        if len(row) == 1:
+            worths.append(worth_of(row, n, x, y))
+        else:
+            letters = (("p",), ("q",))[:len(row) - 1]
+            worths.append(worth_of((row[0],) + letters, n, worths[row[1]], worths[row[-1]]))
+    return worths
+
+
+# How far the function of a line's rule may be followed from start: the places behind start where it meets another rule
+# with a slope of at most four, and does not leave 0 to 1 ahead of it.
+def bends_ahead(start, slope, height):
+    found = []
+    for other_slope in range(-4, 5):
+        for other_height in range(-4, 6):
+            if other_slope != slope:
+                x = Fraction(other_height - height, slope - other_slope)
+                if start < x < 1 and 0 <= slope * x + height <= 1:
+                    found.append((x, other_slope, other_height))
+    return found
+
+
+# Each line of at most so many stretches, behind those given, that stays and has slopes of at most four either way.
+def staying_lines(most, stretches=(), start=Fraction(0), rules=None):
+    if rules is None:
+        rules = [(slope, height) for slope in range(-4, 5) for height in (0, 1)]
+    for slope, height in rules:
+        if 0 <= slope + height <= 1:
+            yield stretches + (((1, 1), slope, height),)
+        if most > 1:
+            for x, other_slope, other_height in bends_ahead(start, slope, height):
+                ahead = stretches + ((pair(x), slope, height),)
+                yield from staying_lines(most - 1, ahead, x, [(other_slope, other_height)])
+
+
+# A point's two fractions.
+def place_of(point):
+    return (Fraction(point[1], point[0]), Fraction(point[2], point[0]))
+
+
+def corner_at(x, y):
+    n = math.lcm(x.denominator, y.denominator)
+    return (n, int(x * n), int(y * n))
+
+
+# The corner that lies amid some points.
+def amid(points):
+    places = [place_of(point) for point in points]
+    return corner_at(sum(place[0] for place in places) / len(places), sum(place[1] for place in places) / len(places))
+
+
+# More than 0 where the three turn against the clock.
+def turning(first, second, third):
+    return ((second[0] - first[0]) * (third[1] - first[1]) - (second[1] - first[1]) * (third[0] - first[0]))
+
+
+def area(hull):
+    places = [place_of(corner) for corner in hull]
+    return sum(turning(places[0], second, third) for second, third in zip(places[1:], places[2:])) / 2
+
+
+# None where the thing is a hull as [23] tells.
+def hull_fault(hull):
+    if type(hull) is not list or len(hull) < 3:
+        return "no list of three or more"
+    for corner in hull:
+        if type(corner) is not tuple or [type(number) for number in corner] != [int, int, int]:
+            return "no corner"
+        if corner[0] < 1 or not all(0 <= number <= corner[0] for number in corner) or math.gcd(*corner) != 1:
+            return "no corner of the square, or one with a common part"
+    for three in itertools.combinations([place_of(corner) for corner in hull], 3):
+        if turning(*three) <= 0:
+            return "not outward, against the clock"
+    return None
+
+
+def some_rule(chance, most):
+    return tuple(chance.randrange(-most, most + 1) for k in range(3))
+
+
+# The two parts by [24], reckoned with fractions; None where the rule does not cut.
+def parts_of(hull, rule):
+    places = [place_of(corner) for corner in hull]
+    told = [rule[0] * x + rule[1] * y + rule[2] for x, y in places]
+    if not (any(height < 0 for height in told) and any(height > 0 for height in told)):
+        return None
+    low, high = [], []
+    for k, (x, y) in enumerate(places):
+        other_x, other_y = places[(k + 1) % len(hull)]
+        here, there = told[k], told[(k + 1) % len(hull)]
+        if here <= 0:
+            low.append(hull[k])
+        if here >= 0:
+            high.append(hull[k])
+        if (here < 0 < there) or (there < 0 < here):
+            share = here / (here - there)
+            between = corner_at(x + share * (other_x - x), y + share * (other_y - y))
+            low.append(between)
+            high.append(between)
+    return (low, high)
+
+
+# Hulls that came of so many cuts of the square, one within another, taken by chance; the square itself first.
+def some_hulls(chance, depth, most=4):
+    hulls = [[(1, 0, 0), (1, 1, 0), (1, 1, 1), (1, 0, 1)]]
+    while len(hulls) <= depth:
+        parts = parts_of(hulls[-1], some_rule(chance, most))
+        if parts is None:
+            # A rule through the middle, where none was met, cuts for certain.
+            n, x, y = amid(hulls[-1])
+            parts = parts_of(hulls[-1], chance.choice(((n, 0, -x), (0, n, -y), (n, -n, y - x), (n, n, -x - y))))
+        hulls.append(chance.choice(parts))
+    return hulls

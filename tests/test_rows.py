@@ -6,9 +6,8 @@ import unittest
 from leansay.errors import NoPoint, NoRows, SayError
 from leansay.rows import rows_fault, rows_of, worth_of_rows
 from leansay.sayings import Always, Greater, Leads, Less, Lesser, Letter, More, Never, Not
-from plans import FOLDS, LARGE, P, Q, SIXTY, made, some_plan, some_plans, some_points, text_of, worth_of
-
-LEAVES = ("never", "always", "p", "q")
+from plans import (FOLDS, LARGE, LEAVES, P, Q, SIXTY, made, some_plan, some_plans, some_points, some_rows, text_of,
+                   worth_of, worths_row_by_row)
 
 
 class Strange:
@@ -31,32 +30,8 @@ NEVER_ROWS = [
 ]
 
 
-def some_rows(chance, count, words=LEAVES):
-    rows = []
-    for place in range(count):
-        if place == 0 or chance.randrange(6) == 0:
-            rows.append((chance.choice(words),))
-        elif chance.randrange(4) == 0:
-            rows.append(("not", chance.randrange(place)))
-        else:
-            rows.append((chance.choice(tuple(FOLDS)), chance.randrange(place), chance.randrange(place)))
-    return rows
-
-
 def plan_of(rows, place):
     return (rows[place][0],) + tuple(plan_of(rows, index) for index in rows[place][1:])
-
-
-def worth_row_by_row(rows, point):
-    worths = []
-    for row in rows:
-        n, x, y = point
-        if len(row) == 1:
-            worths.append(worth_of(row, n, x, y))
-        else:
-            letters = (("p",), ("q",))[:len(row) - 1]
-            worths.append(worth_of((row[0],) + letters, n, worths[row[1]], worths[row[-1]]))
-    return worths[-1]
 
 
 # Each unlike part of the plan once, in the order that [13] tells; parts are named by their places.
@@ -240,7 +215,7 @@ class WorthOfRows(unittest.TestCase):
         for k in range(60):
             rows = some_rows(chance, chance.choice((1, 2, 12, 60, 400)))
             for point in some_points(chance, 4):
-                self.assert_worth(rows, point, worth_row_by_row(rows, point))
+                self.assert_worth(rows, point, worths_row_by_row(rows, point)[-1])
 
     def test_shared_parts_nested_sixty_times(self):
         doubled = [("p",)] + [("more", k, k) for k in range(60)]
@@ -250,7 +225,7 @@ class WorthOfRows(unittest.TestCase):
         self.assert_worth(doubled, (2 ** 60 - 1, 1, 0), 2 ** 60 - 1)
         self.assert_worth(doubled, (LARGE, 0, 5), 0)
         left = [("p",), ("q",)] + [("leads", k + 1, k) for k in range(399 - 1)]
-        self.assert_worth(left, (9, 4, 7), worth_row_by_row(left, (9, 4, 7)))
+        self.assert_worth(left, (9, 4, 7), worths_row_by_row(left, (9, 4, 7))[-1])
 
     def test_no_rows_are_refused(self):
         rows = [("p",), ("q",), ("leads", 0, 1)]

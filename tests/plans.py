@@ -14,6 +14,7 @@ Q = Letter("q")
 LEAVES = ("never", "always", "p", "q")
 LARGE = 10 ** 20 + 39
 SIXTY = 10 ** 60 - 1
+SQUARE = [(1, 0, 0), (1, 1, 0), (1, 1, 1), (1, 0, 1)]
 
 
 def some_plan(chance, size):
@@ -266,7 +267,7 @@ def parts_of(hull, rule):
 
 # Hulls that came of so many cuts of the square, one within another, taken by chance; the square itself first.
 def some_hulls(chance, depth, most=4):
-    hulls = [[(1, 0, 0), (1, 1, 0), (1, 1, 1), (1, 0, 1)]]
+    hulls = [list(SQUARE)]
     while len(hulls) <= depth:
         parts = parts_of(hulls[-1], some_rule(chance, most))
         if parts is None:
@@ -275,3 +276,85 @@ def some_hulls(chance, depth, most=4):
             parts = parts_of(hulls[-1], chance.choice(((n, 0, -x), (0, n, -y), (n, -n, y - x), (n, n, -x - y))))
         hulls.append(chance.choice(parts))
     return hulls
+
+
+# A plan with just so many folds.
+def some_folded_plan(chance, folds):
+    if folds == 0:
+        plan = (chance.choice(("p", "q") * 6 + LEAVES),)
+    else:
+        ahead = chance.randrange(folds)
+        behind = folds - 1 - ahead
+        plan = (chance.choice(tuple(FOLDS)), some_folded_plan(chance, ahead), some_folded_plan(chance, behind))
+    return ("not", plan) if chance.randrange(3) == 0 else plan
+
+
+def some_folded_plans(seed, count, folds):
+    chance = random.Random(seed)
+    return [some_folded_plan(chance, chance.choice(folds)) for k in range(count)]
+
+
+def folds_in(plan):
+    return (len(plan) == 3) + sum(folds_in(part) for part in plan[1:])
+
+
+# Tuples (cuts, cuts within one another, the greatest number in a rule) of a tree; an error where it has not the form
+# that [26] tells.
+def tree_size(tree):
+    if type(tree) is not tuple or tree == () or tree[0] not in ("leaf", "cut"):
+        raise ValueError("no tree")
+    if tree[0] == "leaf":
+        if tree != ("leaf",):
+            raise ValueError("no leaf")
+        return (0, 0, 0)
+    word, rule, low, high = tree
+    if type(rule) is not tuple or [type(number) for number in rule] != [int, int, int]:
+        raise ValueError("no rule")
+    low_size, high_size = tree_size(low), tree_size(high)
+    return (1 + low_size[0] + high_size[0], 1 + max(low_size[1], high_size[1]),
+            max(low_size[2], high_size[2], *[abs(number) for number in rule]))
+
+
+# The hulls of the leaves by [26], reckoned with fractions; None where it is no tree on the hull.
+def leaf_hulls(tree, hull):
+    if tree[0] == "leaf":
+        return [list(hull)]
+    parts = parts_of(hull, tree[1])
+    if parts is None:
+        return None
+    found = [leaf_hulls(branch, part) for branch, part in zip(tree[2:], parts)]
+    return None if None in found else found[0] + found[1]
+
+
+# Where a plan has one rule on a hull, as has each of its parts: each fold's test, by [25], has one sign in the corners.
+def is_plain_on(plan, hull):
+    if not all(is_plain_on(part, hull) for part in plan[1:]):
+        return False
+    if len(plan) < 3:
+        return True
+    told = []
+    for n, x, y in hull:
+        one, other = worth_of(plan[1], n, x, y), worth_of(plan[2], n, x, y)
+        told.append(one + other - n if plan[0] in ("more", "less") else one - other)
+    return min(told) >= 0 or max(told) <= 0
+
+
+# Whether the tree holds by [28], reckoned without rules: what is plain on a hull is known by its worths in the corners.
+def does_hold(plan, tree, least):
+    hulls = leaf_hulls(tree, SQUARE)
+    if hulls is None:
+        return False
+    return all(is_plain_on(plan, hull) for hull in hulls) and all(
+        Fraction(worth_of(plan, *corner), corner[0]) >= Fraction(*least) for hull in hulls for corner in hull)
+
+
+def does_hold_for_both(one, other, tree):
+    hulls = leaf_hulls(tree, SQUARE)
+    if hulls is None:
+        return False
+    return all(is_plain_on(one, hull) and is_plain_on(other, hull) for hull in hulls) and all(
+        worth_of(one, *corner) == worth_of(other, *corner) for hull in hulls for corner in hull)
+
+
+def all_steps(n):
+    return [(n, x, y) for x in range(n + 1) for y in range(n + 1)]

@@ -6,9 +6,8 @@ from fractions import Fraction
 
 from leansay.errors import NoCut, SayError
 from leansay.hulls import cut, square, told_by
-from plans import SIXTY, amid, area, hull_fault, parts_of, some_hulls, some_points, some_rule
+from plans import SIXTY, SQUARE, amid, area, hull_fault, parts_of, some_hulls, some_points, some_rule
 
-SQUARE = [(1, 0, 0), (1, 1, 0), (1, 1, 1), (1, 0, 1)]
 NINE = 10 ** 9 - 1
 
 
